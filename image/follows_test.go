@@ -103,7 +103,7 @@ func (x *noise) spoil(s string) string {
 	return string(b)
 }
 
-// cursor is bytes that are read; it panics where there are too few.
+// cursor is bytes that are read; it panics where there are too few, and with an error's number where one is told at once.
 type cursor struct{ rest string }
 
 func (c *cursor) number(long int) int {
@@ -139,17 +139,18 @@ func slowLoad(s string) (c api.Config, code api.Errno) {
 		return c, api.ErrKind
 	}
 	defer func() {
-		if recover() != nil {
+		switch x := recover().(type) {
+		case nil:
+		case api.Errno:
+			c, code = api.Config{}, x
+		default:
 			c, code = api.Config{}, api.ErrShort
 		}
 	}()
 	r := &cursor{text[6:]}
-	c, over := r.network()
+	c = r.network()
 	if len(r.rest) > 0 {
 		return api.Config{}, api.ErrLong
-	}
-	if over {
-		return api.Config{}, api.ErrArg
 	}
 	if _, e := config.Check(c); e != api.OK {
 		return api.Config{}, e
@@ -157,9 +158,9 @@ func slowLoad(s string) (c api.Config, code api.Errno) {
 	return c, api.OK
 }
 
-// network is the network that is read, and whether a Fresh of it is too great.
-func (c *cursor) network() (api.Config, bool) {
-	x, over := api.Config{}, false
+// network is the network that is read.
+func (c *cursor) network() api.Config {
+	x := api.Config{}
 	x.Hosts = c.number(2)
 	x.Parts = c.numbers()
 	x.Major = c.number(4)
@@ -193,10 +194,12 @@ func (c *cursor) network() (api.Config, bool) {
 		p.Size = c.number(2)
 		p.Depth = c.number(2)
 		p.Fresh = c.number(8)
-		over = over || p.Fresh < 0 || p.Fresh > 1<<40
+		if p.Fresh < 0 || p.Fresh > 1<<40 {
+			panic(api.ErrArg)
+		}
 		x.Ports = append(x.Ports, p)
 	}
-	return x, over
+	return x
 }
 
 // P11.1, P11.2, P11.3, T1: what was encoded is loaded, as the chapter's words go.

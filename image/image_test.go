@@ -430,7 +430,7 @@ func TestBegin(t *testing.T) {
 	wantNoNetwork(t, "named ahead of what follows", sealed("AFDX\x00\x02"+text[6:]+"x"), api.ErrKind)
 }
 
-// P11.2: an image that ends too early, wherever that is, and one of which bytes are left; both are named ahead of what else is wrong.
+// P11.2: an image that ends too early, wherever that is, and one of which bytes are left; both are named ahead of what Check tells.
 func TestEnds(t *testing.T) {
 	networks := []api.Config{whole(), {Hosts: 1, Major: 1}, {}, most()}
 	for _, x := range spoilt() {
@@ -457,9 +457,12 @@ func TestSaysMuch(t *testing.T) {
 			wantNoNetwork(t, strconv.Quote(head), sealed(head+"\xff\xff"), api.ErrShort)
 		}
 	}
-	for _, head := range heads {
+	for _, head := range heads[:4] {
 		wantNoNetwork(t, strconv.Quote(head), sealed(head+full), api.ErrShort)
 	}
+	// The first port's Fresh is told at once, those of bytes 0 are not.
+	wantNoNetwork(t, "ports", sealed(heads[4]+full), api.ErrArg)
+	wantNoNetwork(t, "ports", sealed(heads[4]+"\xff\xff"+strings.Repeat("\x00", 4000)), api.ErrShort)
 	// Links that each say that 65535 ends follow, and have none.
 	wantNoNetwork(t, "links", sealed(heads[3]+"\xff\xff"+strings.Repeat("\x00\x01\x00\x00\x01\x00\x40\x00\x00\x00\x00\xff\xff", 60000)), api.ErrShort)
 }
@@ -483,16 +486,23 @@ func TestMany(t *testing.T) {
 	}
 }
 
-// P11.2, R1: a Fresh of eight bytes that is too great is told at once, ahead of Check's errors, but behind what is named ahead of these.
+// tooFreshOnes is numbers of eight bytes that no Fresh may be.
+func tooFreshOnes() []uint64 {
+	return []uint64{1<<40 + 1, 1<<40 + 2, 1<<41 + 5, 1 << 48, 1<<56 + 1, 1 << 62, 1<<63 - 1, 1 << 63, 1<<63 + 1, 1<<63 + 1<<40, 1<<64 - 1<<40, 1<<64 - 2, 1<<64 - 1}
+}
+
+// behindPort is how many bytes stand ahead of what follows a port of a network, as an image has it.
+func behindPort(c api.Config, at int) int {
+	c.Ports = c.Ports[:at+1]
+	return len(plain(c))
+}
+
+// P11.2: a Fresh of eight bytes that is too great is told at once, ahead of Check's errors.
 func TestLongFresh(t *testing.T) {
-	for _, n := range []uint64{1<<40 + 1, 1<<40 + 2, 1<<41 + 5, 1 << 48, 1<<56 + 1, 1 << 62, 1<<63 - 1, 1 << 63, 1<<63 + 1, 1<<63 + 1<<40, 1<<64 - 1<<40, 1<<64 - 2, 1<<64 - 1} {
-		fresh := int(n)
+	for _, n := range tooFreshOnes() {
 		for at := range 3 {
-			turn := func(c *api.Config) { c.Ports[at].Fresh = fresh }
-			text := plain(turned(turn))
-			wantNoNetwork(t, []any{at, n}, sealed(text), api.ErrArg)
-			wantNoNetwork(t, []any{at, n}, sealed(text[:len(text)-1]), api.ErrShort)
-			wantNoNetwork(t, []any{at, n}, sealed(text+"\x00"), api.ErrLong)
+			turn := func(c *api.Config) { c.Ports[at].Fresh = int(n) }
+			wantNoNetwork(t, []any{at, n}, sealed(plain(turned(turn))), api.ErrArg)
 			for _, x := range spoilt() {
 				c := turned(x.turn)
 				if at < len(c.Ports) {
@@ -506,6 +516,44 @@ func TestLongFresh(t *testing.T) {
 	wantRefused(t, "of Queuing", turned(func(c *api.Config) { c.Ports[1].Fresh = 1 << 40 }), api.ErrArg)
 	wantRefused(t, "windows ahead", turned(func(c *api.Config) { c.Ports[1].Fresh, c.Wins[0].Part = 1<<40, 1 }), api.ErrOrder)
 	wantRefused(t, "message behind", turned(func(c *api.Config) { c.Ports[0].Fresh, c.Ports[0].Size = 1<<40, 54 }), api.ErrLong)
+}
+
+// P11.2: a Fresh that is too great is told wherever the bytes behind it end, and however many are left; but not if its own eight bytes are not there.
+func TestLongFreshAtOnce(t *testing.T) {
+	for _, n := range tooFreshOnes() {
+		for at := range 3 {
+			c := turned(func(c *api.Config) { c.Ports[at].Fresh = int(n) })
+			text, behind := plain(c), behindPort(c, at)
+			for i := 6; i < len(text); i++ {
+				code := api.ErrShort
+				if i >= behind {
+					code = api.ErrArg
+				}
+				wantNoNetwork(t, []any{at, n, i}, sealed(text[:i]), code)
+			}
+			for _, more := range []string{"\x00", "x", "\xff\xff", strings.Repeat("\x00", 1000), text} {
+				wantNoNetwork(t, []any{at, n, more}, sealed(text+more), api.ErrArg)
+				wantNoNetwork(t, []any{at, n, more}, sealed(text[:behind]+more), api.ErrArg)
+			}
+		}
+	}
+}
+
+// P11.2: a Fresh that is just not too great is not told at once, whatever is wrong behind it.
+func TestMostFreshIsNotToldAtOnce(t *testing.T) {
+	for at := range 3 {
+		c := turned(func(c *api.Config) { c.Ports[at].Fresh = 1 << 40 })
+		text := plain(c)
+		for i := 6; i < len(text); i++ {
+			wantNoNetwork(t, []int{at, i}, sealed(text[:i]), api.ErrShort)
+		}
+		wantNoNetwork(t, at, sealed(text+"\x00"), api.ErrLong)
+	}
+	// What Check names of the ports ahead, or of all that is ahead of them, waits till all is read.
+	x := turned(func(c *api.Config) { c.Hosts, c.Ports[0].Fresh, c.Ports[1].Fresh = 0, 0, 1 })
+	text := plain(x)
+	wantNoNetwork(t, "ahead", sealed(text[:len(text)-1]), api.ErrShort)
+	wantNoNetwork(t, "ahead", sealed(text+"\x00"), api.ErrLong)
 }
 
 // LANGUAGE 7a, R3: an answer is the same each time, whatever was asked between.
